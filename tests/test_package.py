@@ -1,0 +1,119 @@
+"""The interface as the document lists it, and those rules of the language subset that a look at the files can check."""
+
+import ast
+import builtins
+import importlib
+import inspect
+import unittest
+from pathlib import Path
+
+PACKAGE = Path(__file__).resolve().parent.parent / "truechain"
+INTERFACE = {
+    "errors": {
+        "ChainError": None, "Wrong": ["at"], "NoSpot": [], "NoText": [], "Twice": ["key"], "TooMany": ["most"],
+        "NoPaper": ["key"], "NoThing": ["name"], "NoChain": ["at"], "NoOff": ["key"], "NoReading": ["key"],
+        "NoOffer": ["at"], "NoDeed": [], "NoRow": [],
+    },
+    "kinds": {word: ["thing"] for word in ("is_whole", "is_day", "is_key", "is_point", "is_name", "is_spot")},
+    "fractions": {
+        "is_fraction": ["thing"], "is_small": ["thing"], "fraction": ["top", "bottom"], "plus": ["one", "other"],
+        "less": ["one", "other"], "times": ["one", "other"], "order": ["one", "other"], "total": ["some"],
+        "least": ["some"], "greatest": ["some"],
+    },
+}
+LIBRARY = {
+    "heapq": {"heappush", "heappop", "heapify", "heapreplace", "heappushpop"},
+    "math": {"gcd", "lcm", "isqrt", "comb", "perm", "factorial"},
+    "itertools": {"product", "combinations", "permutations", "chain", "accumulate", "pairwise", "islice",
+                  "zip_longest"},
+    "collections": {"defaultdict", "deque"},
+}
+BUILTINS = set("""
+    len range enumerate zip min max sum abs sorted reversed int str bool bytes list tuple dict set isinstance ord repr
+    any all divmod pow map iter next getattr hasattr setattr type super Exception ValueError TypeError KeyError
+    IndexError LookupError ZeroDivisionError ArithmeticError OverflowError RuntimeError NotImplementedError
+    AttributeError StopIteration NotImplemented
+""".split())
+BARRED_NODES = (ast.Global, ast.AsyncFunctionDef, ast.AsyncFor, ast.AsyncWith, ast.Await, ast.Import, ast.Div)
+
+
+def files():
+    """The files of the package, each with its text and its tree."""
+    for path in sorted(PACKAGE.rglob("*.py")):
+        text = path.read_text(encoding="utf-8")
+        yield path.relative_to(PACKAGE).as_posix(), text, ast.parse(text)
+
+
+class Interface(unittest.TestCase):
+
+    def test_all_is_there_and_is_defined_where_it_is_listed(self):
+        for module, rows in INTERFACE.items():
+            found = importlib.import_module("truechain." + module)
+            for word, arguments in rows.items():
+                with self.subTest(module, word=word):
+                    thing = getattr(found, word)
+                    self.assertEqual(thing.__module__, "truechain." + module)
+                    if inspect.isfunction(thing):
+                        self.assertEqual(list(inspect.signature(thing).parameters), arguments)
+                    elif arguments:
+                        self.assertIn("__init__", vars(thing))
+                        self.assertEqual(list(inspect.signature(thing.__init__).parameters), ["self", *arguments])
+
+
+class Language(unittest.TestCase):
+
+    def test_the_folder_holds_files_of_the_package_alone(self):
+        for path in PACKAGE.rglob("*"):
+            if path.name == "__pycache__" or path.parent.name == "__pycache__":
+                continue
+            self.assertTrue(path.is_dir() or path.suffix == ".py", path)
+            self.assertEqual(path.name, path.name.lower())
+        self.assertTrue((PACKAGE / "__init__.py").is_file())
+
+    def test_sizes_and_signs(self):
+        for name, text, tree in files():
+            with self.subTest(name):
+                rows = text.split("\n")
+                self.assertLessEqual(len(rows), 400)
+                self.assertLessEqual(max(map(len, rows)), 120)
+                self.assertTrue(all(sign == "\n" or " " <= sign <= "~" for sign in text))
+                for node in ast.walk(tree):
+                    if isinstance(node, ast.FunctionDef):
+                        self.assertLessEqual(node.end_lineno - node.lineno + 1, 40, node.name)
+                        self.assertEqual(node.decorator_list, [])
+
+    def test_imports(self):
+        for name, _, tree in files():
+            for node in ast.walk(tree):
+                if isinstance(node, ast.ImportFrom):
+                    with self.subTest(name, module=node.module):
+                        self.assertIn(node, tree.body)
+                        self.assertEqual(node.level, 0)
+                        words = {alias.name for alias in node.names}
+                        self.assertEqual({alias.asname for alias in node.names}, {None})
+                        if node.module.startswith("truechain."):
+                            told = PACKAGE / (node.module.split(".")[1] + ".py")
+                            defined = {row.name for row in ast.parse(told.read_text()).body if hasattr(row, "name")}
+                            self.assertLessEqual({word for word in words if not word.isupper()}, defined)
+                        else:
+                            self.assertLessEqual(words, LIBRARY.get(node.module, set()))
+
+    def test_statements_values_and_names(self):
+        for name, _, tree in files():
+            for node in ast.walk(tree):
+                with self.subTest(name, row=getattr(node, "lineno", None)):
+                    self.assertNotIsInstance(node, BARRED_NODES)
+                    if isinstance(node, ast.Constant):
+                        self.assertNotIsInstance(node.value, (float, complex))
+                    if isinstance(node, ast.Name):
+                        self.assertTrue(node.id in BUILTINS or not hasattr(builtins, node.id), node.id)
+                        if not isinstance(node.ctx, ast.Load):
+                            self.assertNotIn(node.id, BUILTINS)
+
+    def test_module_level(self):
+        allowed = (ast.ImportFrom, ast.FunctionDef, ast.ClassDef, ast.Assign)
+        for name, _, tree in files():
+            for row in tree.body:
+                with self.subTest(name, row=row.lineno):
+                    is_text = isinstance(row, ast.Expr) and isinstance(row.value, ast.Constant)
+                    self.assertTrue(isinstance(row, allowed) or is_text)

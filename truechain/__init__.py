@@ -1,0 +1,1 @@
+"""Truechain: things that measure, held against finer ones."""
