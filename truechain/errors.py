@@ -12,8 +12,10 @@ class Wrong(ChainError):
     """The argument at this place, counted from 0, is not as told."""
 
     def __init__(self, at):
-        super().__init__("an argument is not as told")
         self.at = at
+
+    def __str__(self):
+        return "an argument is not as told"
 
 
 class NoSpot(ChainError):
@@ -34,64 +36,80 @@ class Twice(ChainError):
     """A paper of this key is kept already."""
 
     def __init__(self, key):
-        super().__init__("a paper of this key is kept already")
         self.key = key
+
+    def __str__(self):
+        return "a paper of this key is kept already"
 
 
 class TooMany(ChainError):
     """There would be more than the most that there may be."""
 
     def __init__(self, most):
-        super().__init__("there would be too many papers")
         self.most = most
+
+    def __str__(self):
+        return "there would be too many papers"
 
 
 class NoPaper(ChainError):
     """No paper of this key is kept."""
 
     def __init__(self, key):
-        super().__init__("no paper of this key is kept")
         self.key = key
+
+    def __str__(self):
+        return "no paper of this key is kept"
 
 
 class NoThing(ChainError):
     """There is no thing of this name."""
 
     def __init__(self, name):
-        super().__init__("there is no thing of this name")
         self.name = name
+
+    def __str__(self):
+        return "there is no thing of this name"
 
 
 class NoChain(ChainError):
     """The rows stop being a chain at this place, counted from 0."""
 
     def __init__(self, at):
-        super().__init__("the rows are no chain")
         self.at = at
+
+    def __str__(self):
+        return "the rows are no chain"
 
 
 class NoOff(ChainError):
     """No off paper of this key stands."""
 
     def __init__(self, key):
-        super().__init__("no off paper of this key stands")
         self.key = key
+
+    def __str__(self):
+        return "no off paper of this key stands"
 
 
 class NoReading(ChainError):
     """No read paper of this key stands."""
 
     def __init__(self, key):
-        super().__init__("no read paper of this key stands")
         self.key = key
+
+    def __str__(self):
+        return "no read paper of this key stands"
 
 
 class NoOffer(ChainError):
     """The offer at this place, counted from 0, can't be held."""
 
     def __init__(self, at):
-        super().__init__("an offer can't be held")
         self.at = at
+
+    def __str__(self):
+        return "an offer can't be held"
 
 
 class NoDeed(ChainError):
