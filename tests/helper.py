@@ -1,5 +1,10 @@
 """What several test files need."""
 
+import unittest
+
+from truechain.book import Book
+from truechain.texts import read_paper
+
 
 class Stubborn:
     """A thing that can be neither shown, nor compared, nor measured, nor tested."""
@@ -43,3 +48,54 @@ def places_refused(case, call, arguments, bad, refusal):
             with case.assertRaises(refusal) as caught:
                 call(*spoilt)
             case.assertEqual(caught.exception.at, at)
+
+
+def book_of(*texts):
+    """A book of the papers that have these texts, put in this order."""
+    book = Book()
+    for text in texts:
+        book.put(read_paper(text))
+    return book
+
+
+def words_of(book):
+    """The words of all papers of a book, by their keys."""
+    return {key: book.word(key) for key in book.kept()}
+
+
+def lists_in(thing):
+    """All lists in what was told, each as often as it stands there."""
+    found = [thing] if isinstance(thing, list) else []
+    if isinstance(thing, (list, tuple)):
+        for inner in thing:
+            found.extend(lists_in(inner))
+    return found
+
+
+def own_each_time(case, ask):
+    """Check that what is told shares no list with what is told again, nor holds one twice, and stays the same."""
+    first, second = ask(), ask()
+    case.assertEqual(first, second)
+    lists = lists_in(first) + lists_in(second)
+    case.assertEqual(len({id(one) for one in lists}), len(lists))
+    for one in lists_in(first):
+        one.clear()
+        one.append("spoilt")
+    case.assertEqual(ask(), second)
+
+
+class Case(unittest.TestCase):
+    """What the test cases of books, links and ends share."""
+
+    def refused(self, refusal, call, *arguments, **fields):
+        """Check that a call is refused with just this refusal, which keeps these fields."""
+        with self.assertRaises(refusal) as caught:
+            call(*arguments)
+        self.assertIs(type(caught.exception), refusal)
+        self.assertEqual(vars(caught.exception), fields)
+
+    def standing(self, *texts):
+        """A book of the papers that have these texts, all of which stand."""
+        book = book_of(*texts)
+        self.assertEqual(set(words_of(book).values()), {"stands"})
+        return book

@@ -20,6 +20,26 @@ INTERFACE = {
         "less": ["one", "other"], "times": ["one", "other"], "order": ["one", "other"], "total": ["some"],
         "least": ["some"], "greatest": ["some"],
     },
+    "stretches": {
+        "is_stretch": ["thing"], "widened": ["stretch", "by"], "mixed": ["parts"], "meeting": ["some"],
+        "apart": ["some"], "holds": ["stretch", "worth"], "width": ["stretch"],
+    },
+    "marks": {"Scale": ["marks"], "Box": ["marks"], "marks_of": ["sort", "marks"]},
+    "papers": {"fault_in": ["thing"], "is_ahead": ["one", "other"], "names_in": ["paper"], "copy_of": ["paper"]},
+    "texts": {"show_fraction": ["fraction"], "show_paper": ["paper"], "read_paper": ["text"]},
+    "book": {"Book": []},
+    "links": {"mix_at": ["book", "name", "spot"], "links": ["book", "name", "mark", "day"]},
+    "ends": {"ends": ["book", "name", "spot", "day", "shut"]},
+}
+OF_MARKS = {"marks": [], "fits": ["spot"], "mix": ["spot"]}
+METHODS = {
+    ("marks", "Scale"): OF_MARKS,
+    ("marks", "Box"): OF_MARKS,
+    ("book", "Book"): {
+        "put": ["paper"], "strike": ["key"], "kept": [], "paper": ["key"], "word": ["key"], "would": ["paper"],
+        "thing": ["name"], "there": ["name", "day"], "harmed": ["name", "day"], "breaks": ["name"], "own": ["name"],
+        "line": ["name", "mark"], "readings": [], "offs": [], "copied": [],
+    },
 }
 LIBRARY = {
     "heapq": {"heappush", "heappop", "heapify", "heapreplace", "heappushpop"},
@@ -58,6 +78,14 @@ class Interface(unittest.TestCase):
                     elif arguments:
                         self.assertIn("__init__", vars(thing))
                         self.assertEqual(list(inspect.signature(thing.__init__).parameters), ["self", *arguments])
+
+    def test_methods_are_defined_in_their_class_itself(self):
+        for (module, word), rows in METHODS.items():
+            made = getattr(importlib.import_module("truechain." + module), word)
+            for name, arguments in rows.items():
+                with self.subTest(module, word=word, name=name):
+                    self.assertIn(name, vars(made))
+                    self.assertEqual(list(inspect.signature(vars(made)[name]).parameters), ["self", *arguments])
 
 
 class Language(unittest.TestCase):

@@ -44,14 +44,13 @@ def plus(one, other):
 def less(one, other):
     """Tell one fraction less another one."""
     require(is_fraction(one), is_fraction(other))
-    top, bottom = other
-    return added(one, (-top, bottom))
+    return added(one, negative(other))
 
 
 def times(one, other):
     """Tell one fraction times another one."""
     require(is_fraction(one), is_fraction(other))
-    return in_lowest_terms(one[0] * other[0], one[1] * other[1])
+    return multiplied(one, other)
 
 
 def order(one, other):
@@ -63,13 +62,7 @@ def order(one, other):
 def total(some):
     """Tell what the fractions of a list are together, nought where it holds none."""
     require(is_list_of_fractions(some, 0))
-    sums = some or [NOUGHT]
-    # Sums of about as many fractions each are added to one another: one sum
-    # that took them in one by one would be a long number at nearly every step.
-    while len(sums) > 1:
-        half = len(sums) // 2
-        sums = [added(one, other) for one, other in zip(sums[:half], sums[half:])] + sums[2 * half:]
-    return sums[0]
+    return summed(some)
 
 
 def least(some):
@@ -108,6 +101,28 @@ def added(one, other):
     top = one[0] * (other[1] // common) + other[0] * part
     rest = gcd(top, common)
     return (top // rest, part * (other[1] // rest))
+
+
+def negative(one):
+    """Tell how much less than nought a thing is that is known to be a fraction."""
+    top, bottom = one
+    return (-top, bottom)
+
+
+def multiplied(one, other):
+    """Tell the product of two things that are known to be fractions."""
+    return in_lowest_terms(one[0] * other[0], one[1] * other[1])
+
+
+def summed(some):
+    """Tell the sum of a list that is known to hold fractions alone."""
+    sums = some or [NOUGHT]
+    # Sums of about as many fractions each are added to one another: one sum
+    # that took them in one by one would be a long number at nearly every step.
+    while len(sums) > 1:
+        half = len(sums) // 2
+        sums = [added(one, other) for one, other in zip(sums[:half], sums[half:])] + sums[2 * half:]
+    return sums[0]
 
 
 def compared(one, other):

@@ -1,0 +1,96 @@
+"""Papers by chance, about few things, so that many of them stand and many of them just fail to."""
+
+from math import gcd
+
+SHAPES = {
+    "st": ("box", 0, [1, 2, 5]),
+    "ru": ("scale", 0, [0, 4, 10]),
+    "bl": ("box", 1, [1, 2, 3]),
+    "ga": ("scale", 1, [0, 5, 10]),
+    "fi": ("scale", 2, [0, 6]),
+}
+MADE = ("ma", "mb", "mc")
+LAST = 14
+
+
+def small(chance, least=-12):
+    """A small fraction."""
+    top, bottom = chance.randrange(least, 13), chance.choice((1, 1, 2, 3, 10))
+    common = gcd(top, bottom)
+    return (top // common, bottom // common)
+
+
+def spot_of(chance, marks):
+    """A spot that may fit some marks."""
+    if chance.random() < 0.6:
+        return sorted(chance.sample(marks, chance.choice((1, 1, min(2, len(marks))))))
+    return sorted(chance.randrange(11) for _ in range(chance.choice((1, 1, 2, 3))))
+
+
+def row_marks(chance, marks):
+    """Marks for rows, now and then one that is no mark."""
+    found = chance.sample(marks, chance.randrange(1, len(marks) + 1))
+    if chance.random() < 0.08:
+        found = list({*found[1:], chance.randrange(11)})
+    return sorted(found)
+
+
+def some_papers(chance, many):
+    """So many papers of unlike keys."""
+    shapes = dict(SHAPES)
+    keys = chance.sample(range(1, 1000), many)
+    papers = []
+    for at, key in enumerate(keys):
+        kind = "thing" if at < 5 else chance.choice(
+            ("told", "told", "told", "held", "held", "held", "held", "made", "read", "off", "harmed", "mended", "thing"))
+        papers.append(one_paper(chance, key, kind, at, shapes))
+    chance.shuffle(papers)
+    return papers
+
+
+def one_paper(chance, key, kind, at, shapes):
+    """One paper; shapes tells of the things so far, and gets the made ones."""
+    name = chance.choice(list(shapes))
+    sort, level, marks = shapes[name]
+    day = chance.randrange(LAST + 1)
+    if kind == "thing":
+        if at < 5:
+            name, day = list(SHAPES)[at], chance.choice((0, 0, 0, 1, 3))
+            sort, level, marks = shapes[name]
+        return (key, day, kind, name, sort, level, small(chance, 0), list(marks))
+    if kind == "told":
+        name = name if chance.random() < 0.1 else chance.choice([one for one in shapes if shapes[one][1] == 0])
+        rows = []
+        for mark in row_marks(chance, shapes[name][2]):
+            low, high = sorted((small(chance), small(chance)), key=lambda worth: worth[0] * 30 // worth[1])
+            rows.append((mark, low, high))
+        return (key, day, kind, name, chance.choice((0, 3, 5, 30)), rows)
+    if kind == "held":
+        if chance.random() < 0.9:
+            name = chance.choice([one for one in shapes if shapes[one][1] > 0])
+        finer = chance.choice([one for one in shapes if shapes[one][1] < shapes[name][1]] or list(shapes))
+        rows = [(mark, spot_of(chance, shapes[finer][2]), small(chance), small(chance, 0))
+                for mark in row_marks(chance, shapes[name][2])]
+        return (key, day, kind, name, finer, chance.choice((0, 3, 5, 30)), rows)
+    if kind == "made":
+        return made_paper(chance, key, shapes)
+    if kind == "read":
+        return (key, day, kind, name, spot_of(chance, marks))
+    return (key, day, kind, name)
+
+
+def made_paper(chance, key, shapes):
+    """A made paper."""
+    name = chance.choice(MADE)
+    boxes = [one for one in shapes if one != name and (shapes[one][0] == "box" or chance.random() < 0.05)]
+    elders = chance.sample(boxes, min(len(boxes), chance.choice((1, 1, 2))))
+    if chance.random() < 0.9:
+        elders = [one for one in elders if shapes[one][1] == shapes[elders[0]][1]]
+    pieces = [(elder, piece) for elder in elders for piece in shapes[elder][2]]
+    if chance.random() < 0.05 and (elders[0], 7) not in pieces:
+        pieces.append((elders[0], 7))
+    pieces = chance.sample(pieces, chance.randrange(1, min(len(pieces), 4) + 1))
+    marks = sorted(chance.sample(range(1, 9), len(pieces)))
+    shapes.setdefault(name, ("box", shapes[elders[0]][1], marks))
+    return (key, chance.randrange(4, LAST + 1), "made", name, small(chance, 0),
+            [(mark, *piece) for mark, piece in zip(marks, pieces)])
