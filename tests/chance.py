@@ -94,3 +94,62 @@ def made_paper(chance, key, shapes):
     shapes.setdefault(name, ("box", shapes[elders[0]][1], marks))
     return (key, chance.randrange(4, LAST + 1), "made", name, small(chance, 0),
             [(mark, *piece) for mark, piece in zip(marks, pieces)])
+
+
+def fitting_spot(chance, shape):
+    """A spot that fits a thing."""
+    sort, _, marks = shape
+    if sort == "box":
+        return sorted(chance.sample(marks, chance.randrange(1, len(marks) + 1)))
+    return sorted(chance.randrange(marks[0], marks[-1] + 1) for _ in range(chance.choice((1, 1, 1, 2, 3))))
+
+
+def fitting_papers(chance, many):
+    """So many papers of unlike keys, nearly all of which stand: of few breaks and long terms, so of many chains."""
+    shapes = dict(SHAPES)
+    keys = chance.sample(range(1, 1000), many)
+    papers = []
+    for name, (sort, level, marks) in SHAPES.items():
+        papers.append((keys.pop(), 0, "thing", name, sort, level, small(chance, 0), list(marks)))
+    while keys:
+        kind = chance.choice(("told",) * 9 + ("held",) * 16 + ("read",) * 6 + ("off",) * 2 + ("made", "mended"))
+        day = chance.choice((0, 1, 2, 3, 3, 4, 5, 6, 8, 10, LAST))
+        name = chance.choice(list(shapes))
+        term = chance.choice((2, 4, 8, 30, 30))
+        if kind == "told":
+            name = chance.choice([one for one in shapes if shapes[one][1] == 0])
+            rows = []
+            for mark in sorted(chance.sample(shapes[name][2], chance.randrange(1, len(shapes[name][2]) + 1))):
+                low, more = chance.randrange(8 * mark - 9, 8 * mark + 3), chance.randrange(12)
+                rows.append((mark, eighths(low), eighths(low + more)))
+            papers.append((keys.pop(), day, kind, name, term, rows))
+        elif kind == "held":
+            name = chance.choice([one for one in shapes if shapes[one][1] > 0])
+            finer = chance.choice([one for one in shapes if shapes[one][1] < shapes[name][1]])
+            rows = [(mark, fitting_spot(chance, shapes[finer]), small(chance), eighths(chance.randrange(12)))
+                    for mark in sorted(chance.sample(shapes[name][2], chance.randrange(1, len(shapes[name][2]) + 1)))]
+            papers.append((keys.pop(), day, kind, name, finer, term, rows))
+        elif kind == "made":
+            papers.append(made_paper(chance, keys.pop(), shapes))
+        elif kind == "read":
+            papers.append((keys.pop(), day, kind, name, fitting_spot(chance, shapes[name])))
+        else:
+            papers.append((keys.pop(), day, kind, name))
+    chance.shuffle(papers)
+    return papers
+
+
+def eighths(many):
+    """So many eighths as a fraction."""
+    common = gcd(many, 8)
+    return (many // common, 8 // common)
+
+
+def some_windows(chance, model):
+    """Some windows of things that a model knows."""
+    shut = []
+    for _ in range(chance.choice((0, 0, 1, 3))):
+        name, first = chance.choice(list(model.things)), chance.randrange(LAST + 2)
+        mark = chance.choice(model.things[name].marks)
+        shut.append((name, mark, first, first + chance.choice((0, 1, 3, 20))))
+    return shut

@@ -3,6 +3,7 @@
 import unittest
 
 from truechain.book import Book
+from truechain.errors import NoSpot, NoThing, Wrong
 from truechain.texts import read_paper
 
 
@@ -14,6 +15,14 @@ class Stubborn:
 
     __repr__ = __str__ = __eq__ = __ne__ = __lt__ = __le__ = __gt__ = __ge__ = _refuse
     __len__ = __bool__ = __iter__ = __getitem__ = __contains__ = __hash__ = __index__ = __int__ = _refuse
+
+
+NO_WINDOWS = [
+    ("st", 1, 0), ("st", 1, 0, 1, 2), ["st", 1, 0, 1], "st", None, (), ("ST", 1, 0, 1), ("", 1, 0, 1), (1, "st", 0, 1),
+    ("st", -1, 0, 1), ("st", 1001, 0, 1), ("st", True, 0, 1), ("st", [1], 0, 1), ("st", 1, -1, 1), ("st", 1, 0, -1),
+    ("st", 1, 10 ** 6 + 2, 1), ("st", 1, 0, 10 ** 6 + 2), ("st", 1, True, 1), ("st", 1, 0, True), ("st", 1, None, 1),
+    ("st", 1, 0, None), ("st", 1, "0", 1), (Stubborn(), 1, 0, 1), ("st", 1, 0, Stubborn()), Stubborn(), [("st", 1, 0, 1)],
+]
 
 
 def ring():
@@ -99,3 +108,38 @@ class Case(unittest.TestCase):
         book = book_of(*texts)
         self.assertEqual(set(words_of(book).values()), {"stands"})
         return book
+
+    def spot_refused(self, call, *more):
+        """Check what is refused where (book, name, spot, day) and more are asked, and in which order."""
+        book = book_of("101 0 thing st box 0 0 1,2,5", "103 0 thing ga scale 2 0 0,5,10", "104 0 thing bl box 1 0 1,2,3",
+                       "105 7 thing zz box 0 0 1", "106 5 made ca 0 : 1 bl 1")
+        bad = [thing for thing in junk() if thing.__class__ is not list]
+        places_refused(self, call, [book, "st", [1], 1, *more], bad, Wrong)
+        for spot in ([2, 1], [], [1] * 7, [True], [1001], [Stubborn()], (1,), 1):
+            self.refused(Wrong, call, book, "aa", spot, -1, *more, at=2)
+        for day in (-1, 10 ** 6 + 1, True, "1", [1]):
+            self.refused(Wrong, call, book, "aa", [9], day, *more, at=3)
+        self.refused(Wrong, call, Book, "AA", [2, 1], -1, *more, at=0)
+        self.refused(Wrong, call, book, "AA", [2, 1], -1, *more, at=1)
+        for name, spot, day in (("aa", [1], 5), ("zz", [1], 6), ("zz", [999], 6), ("ca", [1], 4), ("ca", [7], 4),
+                                ("bl", [1], 5), ("bl", [9], 6)):
+            self.refused(NoThing, call, book, name, spot, day, *more, name=name)
+        for name, spot, day in (("zz", [2], 7), ("ca", [2], 5), ("bl", [4], 4), ("bl", [1, 1], 4), ("st", [3], 0),
+                                ("ga", [11], 0), ("ga", [0, 1000], 0)):
+            self.refused(NoSpot, call, book, name, spot, day, *more)
+
+    def windows_refused(self, call, *more):
+        """Check which windows are refused where (book, name, spot, day, shut) and more are asked."""
+        book = book_of("101 0 thing st box 0 0 1,2,5")
+        good = ("st", 1, 0, 1)
+        for thing in NO_WINDOWS:
+            self.refused(Wrong, call, book, "aa", [9], 1, [thing], *more, at=4)
+            for at in range(3):
+                shut = [good] * 3
+                shut[at] = thing
+                self.refused(Wrong, call, book, "st", [1], 1, shut, *more, at=4)
+        for shut in ((good,), good, {good: 1}, None, "st", [good] * 1001, True):
+            self.refused(Wrong, call, book, "aa", [9], 1, shut, *more, at=4)
+        for shut in ([good] * 1000, [], [("aa", 0, 10 ** 6 + 1, 10 ** 6 + 1)], [("zz", 1000, 0, 10 ** 6 + 1)]):
+            self.refused(NoThing, call, book, "aa", [9], 1, shut, *more, name="aa")
+            self.assertIn(call(book, "st", [1], 1, shut, *more), (None, []))

@@ -11,7 +11,7 @@ from truechain.errors import NoSpot, NoThing, Wrong
 from truechain.links import links, mix_at
 from truechain.texts import read_paper
 from tests.chance import LAST, SHAPES, some_papers, spot_of
-from tests.helper import Case, Stubborn, book_of, junk, places_refused, words_of
+from tests.helper import Case, book_of, words_of
 from tests.model import Model
 from tests.world import DAYS, World
 
@@ -21,12 +21,6 @@ THINGS = (
     "103 0 thing ga scale 2 0 0,5,10",
     "104 0 thing bl box 1 0 1,2,3",
 )
-NO_WINDOWS = [
-    ("st", 1, 0), ("st", 1, 0, 1, 2), ["st", 1, 0, 1], "st", None, (), ("ST", 1, 0, 1), ("", 1, 0, 1), (1, "st", 0, 1),
-    ("st", -1, 0, 1), ("st", 1001, 0, 1), ("st", True, 0, 1), ("st", [1], 0, 1), ("st", 1, -1, 1), ("st", 1, 0, -1),
-    ("st", 1, 10 ** 6 + 2, 1), ("st", 1, 0, 10 ** 6 + 2), ("st", 1, True, 1), ("st", 1, 0, True), ("st", 1, None, 1),
-    ("st", 1, 0, None), ("st", 1, "0", 1), (Stubborn(), 1, 0, 1), ("st", 1, 0, Stubborn()), Stubborn(), [("st", 1, 0, 1)],
-]
 
 
 class Base(Case):
@@ -187,43 +181,16 @@ class Windows(Base):
 
 class Refusals(Base):
 
-    def test_no_thing_then_no_spot(self):
-        book = self.book("1 5 made ca 0 : 1 bl 1", "2 7 thing zz box 0 0 1")
-        for name, spot, day in (("aa", [1], 5), ("zz", [1], 6), ("zz", [999], 6), ("ca", [1], 4), ("ca", [7], 4),
-                                ("bl", [1], 5), ("bl", [9], 6)):
-            self.refused(NoThing, ends, book, name, spot, day, [], name=name)
-        for name, spot, day in (("zz", [2], 7), ("ca", [2], 5), ("bl", [4], 4), ("bl", [1, 1], 4), ("st", [3], 0),
-                                ("ga", [11], 0), ("ga", [0, 1000], 0)):
-            self.refused(NoSpot, ends, book, name, spot, day, [])
-        for name, spot, day in (("zz", [1], 7), ("ca", [1], 5), ("bl", [1, 3], 4), ("ga", [7], 0)):
-            self.assertIsNone(ends(book, name, spot, day, []))
-
-    def test_wrong(self):
-        book = self.book()
-        arguments = [book, "st", [1], 1, [("st", 1, 0, 1)]]
-        places_refused(self, ends, arguments, [thing for thing in junk() if thing.__class__ is not list], Wrong)
-        self.refused(Wrong, ends, Book, "zz", [9], 1, [], at=0)
-        self.refused(Wrong, ends, None, "zz", [9], 1, [], at=0)
-        self.refused(Wrong, ends, book, "ZZ", [2, 1], 1, [], at=1)
-        for spot in ([2, 1], [], [1] * 7, [True], [1001], (1,), 1):
-            self.refused(Wrong, ends, book, "zz", spot, -1, None, at=2)
-        for day in (-1, 10 ** 6 + 1, True, "1", [1]):
-            self.refused(Wrong, ends, book, "zz", [9], day, None, at=3)
+    def test_refusals_in_their_order(self):
+        self.spot_refused(ends, [("st", 1, 0, 1)])
 
     def test_what_is_no_list_of_windows(self):
-        book = self.book()
-        good = ("st", 1, 0, 1)
-        for thing in NO_WINDOWS:
-            self.refused(Wrong, ends, book, "zz", [9], 1, [thing], at=4)
-            for at in range(3):
-                shut = [good] * 3
-                shut[at] = thing
-                self.refused(Wrong, ends, book, "st", [1], 1, shut, at=4)
-        for shut in ((good,), good, {good: 1}, None, "st", [good] * 1001, True):
-            self.refused(Wrong, ends, book, "zz", [9], 1, shut, at=4)
-        for shut in ([good] * 1000, [], [("zz", 0, 10 ** 6 + 1, 10 ** 6 + 1)], [("zz", 1000, 0, 10 ** 6 + 1)]):
-            self.assertIsNone(ends(book, "st", [1], 1, shut))
-            self.refused(NoThing, ends, book, "zz", [9], 1, shut, name="zz")
+        self.windows_refused(ends)
+
+    def test_a_spot_without_a_chain_is_not_refused(self):
+        book = self.book("1 5 made ca 0 : 1 bl 1", "2 7 thing zz box 0 0 1")
+        for name, spot, day in (("zz", [1], 7), ("ca", [1], 5), ("bl", [1, 3], 4), ("ga", [7], 0)):
+            self.assertIsNone(ends(book, name, spot, day, []))
 
     def test_nothing_is_changed_and_the_same_is_told_again(self):
         book = self.book("1 1 told ru 90 : 0 0 1 : 10 10 12", "2 2 held ga ru 90 : 0 2 0 0 : 5 5,5 1 1/2")

@@ -30,6 +30,13 @@ INTERFACE = {
     "book": {"Book": []},
     "links": {"mix_at": ["book", "name", "spot"], "links": ["book", "name", "mark", "day"]},
     "ends": {"ends": ["book", "name", "spot", "day", "shut"]},
+    "chains": {
+        "chain": ["book", "name", "spot", "day", "shut", "by"], "nearest": ["book", "name", "spot", "day", "shut"],
+        "walk": ["book", "name", "spot", "day", "rows"], "through": ["rows", "shut"],
+    },
+    "quarrels": {word: ["book", "name", "spot", "day", "shut"] for word in ("quarrel", "quarrels")},
+    "doubts": {"windows": ["book", "key"], "all_windows": ["book"], "doubted": ["book", "key"]},
+    "answers": {"answer": ["book", "key"], "lasts": ["book", "name", "spot", "day"]},
 }
 OF_MARKS = {"marks": [], "fits": ["spot"], "mix": ["spot"]}
 METHODS = {

@@ -2,57 +2,37 @@
 
 from truechain.book import Book
 from truechain.errors import require
-from truechain.fractions import NOUGHT, added, multiplied, outermost
+from truechain.fractions import negative
 from truechain.kinds import is_day, is_name, is_spot
-from truechain.links import links_of, require_there
-from truechain.shutters import Shutters, are_windows
+from truechain.links import wanted
+from truechain.marks import WHOLE
+from truechain.routes import Routes, Web
+from truechain.shutters import are_windows
 
 
 class Reach:
-    """The ends of the marks of things on days, each looked at once."""
+    """How far the chains of a web reach up and down."""
 
-    def __init__(self, things, shutters):
-        self.things = things
-        self.shutters = shutters
-        self.known = {}
+    def __init__(self, web):
+        self.lows = Routes(web, "low")
+        self.highs = Routes(web, "high")
 
-    def of_mark(self, name, mark, day):
-        """Tell the greatest low end and the least high end of a mark's chains on a day, or None where it has none."""
-        place = (name, mark, day)
-        if place not in self.known:
-            self.known[place] = self._looked_at(name, mark, day)
-        return self.known[place]
-
-    def of_parts(self, parts):
-        """Tell the ends of tuples (weight, name, mark, day) together, or None where one of them has no chain."""
-        low = high = NOUGHT
-        for weight, name, mark, day in parts:
-            found = self.of_mark(name, mark, day)
-            if found is None:
-                return None
-            low = added(low, multiplied(weight, found[0]))
-            high = added(high, multiplied(weight, found[1]))
-        return (low, high)
-
-    def _looked_at(self, name, mark, day):
-        """Look for the ends of a mark on a day."""
-        if self.shutters.hides(name, mark, day):
+    def ends_of(self, parts):
+        """Tell the greatest low end and the least high end of the chains of parts, or None where there is none."""
+        low = self.lows.cost_of(parts)
+        if low is None:
             return None
-        lows = []
-        highs = []
-        for _, low, high, parts in links_of(self.things, name, mark, day):
-            found = self.of_parts(parts)
-            if found is not None:
-                lows.append(added(low, found[0]))
-                highs.append(added(high, found[1]))
-        # Weights are not below nought, so the outermost ends of the parts make those of the whole.
-        return (outermost(lows, 1), outermost(highs, -1)) if lows else None
+        return (negative(low), self.highs.cost_of(parts))
+
+    def ends_at(self, place):
+        """Tell the ends of a mark on a day (name, mark, day), or None where it has no chain."""
+        name, mark, day = place
+        return self.ends_of([(WHOLE, name, mark, day)])
 
 
 def ends(book, name, spot, day, shut):
     """Tell the greatest low end and the least high end of a spot's chains on a day, or None where it has none."""
     require(isinstance(book, Book), is_name(name), is_spot(spot), is_day(day), are_windows(shut))
     things = book.course().things
-    require_there(things, name, day)
-    parts = [(weight, name, mark, day) for mark, weight in things[name].shape.mix(spot)]
-    return Reach(things, Shutters(shut)).of_parts(parts)
+    parts = wanted(things, name, spot, day)
+    return Reach(Web(things, shut, {})).ends_of(parts)

@@ -33,6 +33,12 @@ def require_there(things, name, day):
         raise NoThing(name)
 
 
+def wanted(things, name, spot, day):
+    """Tell what is wanted of a spot of a thing on a day, as tuples (weight, name, mark, day)."""
+    require_there(things, name, day)
+    return [(weight, name, mark, day) for mark, weight in things[name].shape.mix(spot)]
+
+
 def links_of(things, name, mark, day):
     """Tell the links of a mark on a day on which the thing is there."""
     found = []

@@ -15,10 +15,12 @@ PARTS = {
     "held": ("name", "finer", "term", "rows"),
     "read": ("name", "spot"),
 }
+# An offer is no paper, but has rows as a held paper has them that is not written yet.
 ROW_PARTS = {
     "made": ("mark", "elder", "piece"),
     "told": ("mark", "low", "high"),
     "held": ("mark", "spot", "difference", "slack"),
+    "offer": ("mark", "spot", "slack"),
 }
 KEY_AT = 0
 DAY_AT = 1
@@ -110,7 +112,7 @@ def is_worth_of(part, worth):
         return is_point(worth)
     if part in ("low", "high", "difference"):
         return is_small(worth)
-    if part in ("rate", "slack"):
+    if part in ("rate", "slack", "width"):
         return is_small(worth) and worth[0] >= 0
     if part == "key":
         return is_key(worth)
@@ -122,14 +124,14 @@ def is_worth_of(part, worth):
 
 
 def are_rows(thing, kind):
-    """Tell of whatever is handed in whether it is a list of rows, as a paper of this kind wants them."""
+    """Tell of whatever is handed in whether it is a list of rows, as a paper of this kind or an offer wants them."""
     if not isinstance(thing, list) or not 1 <= len(thing) <= MOST_ROWS:
         return False
     return all(is_row(row, kind) for row in thing) and do_rise([row[0] for row in thing])
 
 
 def is_row(thing, kind):
-    """Tell of whatever is handed in whether it is a row of a paper of this kind."""
+    """Tell of whatever is handed in whether it is a row of a paper of this kind or of an offer."""
     parts = ROW_PARTS[kind]
     if not isinstance(thing, tuple) or len(thing) != len(parts):
         return False
