@@ -153,3 +153,52 @@ def some_windows(chance, model):
         mark = chance.choice(model.things[name].marks)
         shut.append((name, mark, first, first + chance.choice((0, 1, 3, 20))))
     return shut
+
+
+def some_offers(chance, model, day):
+    """Some offers that can be held on a day."""
+    whole = [name for name, thing in model.things.items() if thing.has_on(day) and not thing.harmed_on(day)]
+    offers = []
+    for key in range(2000, 2000 + chance.choice((0, 1, 2, 3, 4))):
+        pairs = [(name, finer) for name in whole for finer in whole
+                 if model.things[finer].level < model.things[name].level]
+        if pairs:
+            name, finer = chance.choice(pairs)
+            marks, below = model.things[name].marks, model.things[finer]
+            offers.append((key if chance.random() < 0.5 else 3000 - key, name, finer, [
+                (mark, fitting_spot(chance, (below.sort, below.level, below.marks)), eighths(chance.randrange(6)))
+                for mark in sorted(chance.sample(marks, chance.randrange(1, len(marks) + 1)))]))
+    return offers
+
+
+def some_trial(chance, teller):
+    """Papers, a day, offers and wishes, which all of the offers may meet just or just not."""
+    while True:
+        model = teller(fitting_papers(chance, chance.randrange(20, 38)))
+        day = chance.randrange(1, LAST + 2)
+        offers = some_offers(chance, model, day)
+        keys = [paper[0] for paper in model.papers]
+        if any(one[0] in keys for one in offers):
+            continue
+        full, wishes = model.with_offers(day, offers), []
+        # Asked is mostly what is offered: other things often have no chain, or one that nothing brings nearer.
+        names = [one[1] for one in offers] or [name for name in model.things if model.things[name].has_on(day)]
+        for _ in range(chance.choice((0, 1, 1, 2, 2, 3))):
+            name = chance.choice(names)
+            thing = model.things[name]
+            spot = fitting_spot(chance, (thing.sort, thing.level, thing.marks))
+            if full.many(full.wanted(name, spot, day), [], {}) > 40:
+                continue
+            found = full.near_with(day, [], name, spot)
+            if found is None and chance.random() < 0.85:
+                continue
+            wishes.append((name, spot, some_width(chance, found)))
+        return model, day, offers, wishes
+
+
+def some_width(chance, found):
+    """A width near to what was found, as a wish may want it."""
+    top, bottom = (chance.randrange(40), 1) if found is None else found[0]
+    if bottom <= 1000 and chance.random() < 0.6:
+        return (top, bottom)
+    return eighths(max(0, 8 * top // bottom + chance.choice((-1, 0, 1, 2, 40))))

@@ -24,6 +24,30 @@ NO_WINDOWS = [
     ("st", 1, 0, None), ("st", 1, "0", 1), (Stubborn(), 1, 0, 1), ("st", 1, 0, Stubborn()), Stubborn(), [("st", 1, 0, 1)],
 ]
 
+GOOD_ROW = (0, [0], (1, 1))
+NO_OFFERS = [
+    (10, "ga", "ru"), (10, "ga", "ru", [GOOD_ROW], 0), [10, "ga", "ru", [GOOD_ROW]], (), None, "offer", 7, Stubborn(),
+    (0, "ga", "ru", [GOOD_ROW]), (10 ** 9 + 1, "ga", "ru", [GOOD_ROW]), (True, "ga", "ru", [GOOD_ROW]),
+    ("10", "ga", "ru", [GOOD_ROW]), (10, "GA", "ru", [GOOD_ROW]), (10, "", "ru", [GOOD_ROW]), (10, None, "ru", [GOOD_ROW]),
+    (10, "ga", "RU", [GOOD_ROW]), (10, "ga", 7, [GOOD_ROW]), (10, "ga", Stubborn(), [GOOD_ROW]), (10, "ga", "ru", []),
+    (10, "ga", "ru", (GOOD_ROW,)), (10, "ga", "ru", GOOD_ROW), (10, "ga", "ru", None), (10, "ga", "ru", [None]),
+    (10, "ga", "ru", [list(GOOD_ROW)]), (10, "ga", "ru", [GOOD_ROW, GOOD_ROW]), (10, "ga", "ru", [(5, *GOOD_ROW[1:]), GOOD_ROW]),
+    (10, "ga", "ru", [(mark, *GOOD_ROW[1:]) for mark in range(9)]), (10, "ga", "ru", [GOOD_ROW[:2]]),
+    (10, "ga", "ru", [(0, [0], (0, 1), (1, 1))]), (10, "ga", "ru", [(-1, *GOOD_ROW[1:])]),
+    (10, "ga", "ru", [(1001, *GOOD_ROW[1:])]), (10, "ga", "ru", [(False, *GOOD_ROW[1:])]),
+    (10, "ga", "ru", [(0, [], (1, 1))]), (10, "ga", "ru", [(0, [2, 1], (1, 1))]), (10, "ga", "ru", [(0, (0,), (1, 1))]),
+    (10, "ga", "ru", [(0, 0, (1, 1))]), (10, "ga", "ru", [(0, [0] * 7, (1, 1))]), (10, "ga", "ru", [(0, [0], (-1, 1))]),
+    (10, "ga", "ru", [(0, [0], (2, 2))]), (10, "ga", "ru", [(0, [0], (1, 1001))]), (10, "ga", "ru", [(0, [0], 1)]),
+    (10, "ga", "ru", [(0, [0], (10 ** 12 + 1, 1))]), (10, "ga", "ru", [(0, [0], [1, 1])]), (10, "ga", "ru", [Stubborn()]),
+]
+NO_WISHES = [
+    ("ga", [0]), ("ga", [0], (1, 1), 0), ["ga", [0], (1, 1)], (), None, "wish", 7, Stubborn(), ("GA", [0], (1, 1)),
+    (7, [0], (1, 1)), (Stubborn(), [0], (1, 1)), ("ga", [], (1, 1)), ("ga", [1, 0], (1, 1)), ("ga", (0,), (1, 1)),
+    ("ga", 0, (1, 1)), ("ga", [True], (1, 1)), ("ga", [0] * 7, (1, 1)), ("ga", [0], 1), ("ga", [0], None),
+    ("ga", [0], (-1, 1)), ("ga", [0], (2, 2)), ("ga", [0], (1, 1001)), ("ga", [0], (10 ** 12 + 1, 1)), ("ga", [0], [1, 1]),
+    ("ga", [0], (1, True)), ("ga", [0], Stubborn()),
+]
+
 
 def ring():
     """A list that holds itself."""

@@ -37,6 +37,12 @@ INTERFACE = {
     "quarrels": {word: ["book", "name", "spot", "day", "shut"] for word in ("quarrel", "quarrels")},
     "doubts": {"windows": ["book", "key"], "all_windows": ["book"], "doubted": ["book", "key"]},
     "answers": {"answer": ["book", "key"], "lasts": ["book", "name", "spot", "day"]},
+    "offers": {
+        "near_with": ["book", "day", "offers", "name", "spot"], "met": ["book", "day", "offers", "wishes"],
+    },
+    "plans": {word: ["book", "day", "offers", "wishes"] for word in ("plan", "needed")},
+    "house": {"House": []},
+    "desk": {"Desk": []},
 }
 OF_MARKS = {"marks": [], "fits": ["spot"], "mix": ["spot"]}
 METHODS = {
@@ -47,6 +53,11 @@ METHODS = {
         "thing": ["name"], "there": ["name", "day"], "harmed": ["name", "day"], "breaks": ["name"], "own": ["name"],
         "line": ["name", "mark"], "readings": [], "offs": [], "copied": [],
     },
+    ("house", "House"): {
+        "put": ["paper"], "strike": ["key"], "back": [], "kept": [], "word": ["key"], "answer": ["key"], "answers": [],
+        "book": [],
+    },
+    ("desk", "Desk"): {"say": ["text"]},
 }
 LIBRARY = {
     "heapq": {"heappush", "heappop", "heapify", "heapreplace", "heappushpop"},

@@ -136,3 +136,64 @@ class World:
         high = min(mark for mark in marks if mark > point)
         one, other = self.worths[name, low, day], self.worths[name, high, day]
         return one + (other - one) * Fraction(point - low, high - low)
+
+
+class DoubtfulWorld(World):
+    """A world in which things go wrong unseen, their worths go anywhere, and they are found off some day."""
+
+    def __init__(self, chance):
+        self.wrong = set()
+        self.read = []
+        super().__init__(chance)
+        for name in sorted({name for name, _ in self.wrong}):
+            self.write(DAYS, "off", name)
+
+    def live(self, day):
+        for name in list(self.shapes):
+            if day and self.is_there(name, day) and self.chance.random() < 0.04:
+                marks = self.shapes[name][2]
+                self.wrong.update((name, mark) for mark in self.chance.sample(marks, self.chance.randrange(1, len(marks) + 1)))
+        super().live(day)
+        whole = [name for name in self.shapes if self.is_there(name, day) and name not in self.harmed]
+        if whole and len(self.papers) < 52:
+            name = self.chance.choice(whole)
+            spot = self.spot(name)
+            self.write(day, "read", name, spot)
+            self.read.append((len(self.papers), self.worth(name, spot, day)))
+
+    def go_astray(self, name, day):
+        super().go_astray(name, day)
+        for mark in self.shapes[name][2]:
+            if (name, mark) in self.wrong:
+                self.worths[name, mark, day] += self.chance.randrange(-9, 10)
+
+    def break_one(self, name, day):
+        super().break_one(name, day)
+        if self.papers[-1][2] == "off":
+            self.wrong = {place for place in self.wrong if place[0] != name}
+
+    def make_box(self, there, day):
+        papers, shapes, ends = len(self.papers), dict(self.shapes), dict(self.ends)
+        wrong = set(self.wrong)
+        super().make_box(there, day)
+        if len(self.papers) == papers:
+            return
+        name, rows = self.papers[-1][3], self.papers[-1][-1]
+        pieces = {(elder, piece): (name, mark) for mark, elder, piece in rows}
+        elders = {elder for _, elder, _ in rows}
+        if any(place not in pieces for place in wrong if place[0] in elders):
+            # A piece that is left in an ended box can't be found off any more: there shall be no such one.
+            self.papers.pop()
+            self.shapes, self.ends = shapes, ends
+            return
+        self.wrong = {pieces.get(place, place) for place in wrong}
+
+    def hold(self, name, whole, day):
+        """Nobody holds a mark that went wrong without finding it off: but others are held against it."""
+        right = [mark for mark in self.shapes[name][2] if (name, mark) not in self.wrong]
+        if not right or len(self.papers) >= 50:
+            return
+        sort, level, marks = self.shapes[name]
+        self.shapes[name] = (sort, level, right)
+        super().hold(name, whole, day)
+        self.shapes[name] = (sort, level, marks)
