@@ -139,6 +139,18 @@ def fitting_papers(chance, many):
     return papers
 
 
+def layered_papers(many):
+    """Papers of six scales, each held against the one before so many times: of chains far too many to go through."""
+    names, marks = "abcdef", [0, 3, 10, 17, 31, 50, 77, 100]
+    papers = [(0, "thing", name, "scale", level, (1, 997), marks) for level, name in enumerate(names)]
+    for at in range(many):
+        papers.append((at, "told", "a", 10 ** 6, [(mark, (mark - at, 1), (mark + at + 1, 1)) for mark in marks]))
+        for level in range(1, 6):
+            papers.append((3 * level + at, "held", names[level], names[level - 1], 10 ** 6, [
+                (mark, [1, 20, 40, 60, 80, 99][at % 3:][:1 + mark % 3], (at + 1, 991), (at + 1, 983)) for mark in marks]))
+    return [(key, *paper) for key, paper in enumerate(papers, 1)]
+
+
 def eighths(many):
     """So many eighths as a fraction."""
     common = gcd(many, 8)

@@ -6,11 +6,11 @@ from time import perf_counter
 
 from truechain.answers import answer, lasts
 from truechain.book import Book
-from truechain.doubts import all_windows
+from truechain.doubts import all_windows, doubted
 from truechain.ends import ends
 from truechain.errors import NoReading, NoThing, Wrong
 from truechain.texts import read_paper
-from tests.chance import LAST, fitting_papers, spot_of, some_papers
+from tests.chance import LAST, fitting_papers, layered_papers, spot_of, some_papers
 from tests.helper import Case, Stubborn, book_of, junk, places_refused, words_of
 from tests.teller import Teller
 
@@ -241,3 +241,27 @@ class AsTheTellerTells(Base):
                     else:
                         what = "some"
                     seen[what] = seen.get(what, 0) + 1
+
+
+class Time(Base):
+
+    def test_chains_that_are_far_too_many_to_go_through(self):
+        book = Book()
+        for one in layered_papers(8):
+            book.put(one)
+        for one in ((900, 400, "read", "f", [1, 20, 40, 60, 80, 99]), (901, 900000, "read", "f", [50, 99]), (902, 500, "off", "c"),
+                    (903, 6, "off", "a")):
+            book.put(one)
+        self.assertEqual(set(words_of(book).values()), {"stands"})
+        began = perf_counter()
+        for key in (900, 901):
+            _, day, _, name, spot = book.paper(key)
+            self.assertEqual(answer(book, key)[1:], ends(book, name, spot, day, all_windows(book)))
+        self.assertEqual(lasts(book, "f", [1, 20, 40, 60, 80, 99], 400), 10 ** 6)
+        book.put((904, 700000, "off", "f"))
+        self.assertEqual([answer(book, key)[0] for key in (900, 901)], ["doubtful", "bare"])
+        self.assertIsNone(lasts(book, "f", [1, 20, 40, 60, 80, 99], 400))
+        self.assertEqual([row[1] for row in doubted(book, None)], ["doubtful", "bare"])
+        self.assertEqual([row[1] for row in doubted(book, 902)], ["sure", "bare"])
+        # Far more than is needed where each mark on a day is looked at once.
+        self.assertLess(perf_counter() - began, 30)

@@ -1,7 +1,6 @@
 """Promises 3, 4, 6, 22 to 26: chains told row by row, their widths, and walks of whatever rows."""
 
 import copy
-from fractions import Fraction
 from random import Random
 from time import perf_counter
 
@@ -11,9 +10,9 @@ from truechain.ends import ends
 from truechain.errors import NoChain, NoSpot, NoThing, Wrong
 from truechain.links import links, mix_at
 from truechain.stretches import width
-from tests.chance import LAST, fitting_papers, spot_of, some_papers, some_windows
-from tests.helper import Case, Stubborn, book_of, junk, own_each_time, words_of
-from tests.model import told
+from tests.chance import LAST, fitting_papers, layered_papers, spot_of, some_papers, some_windows
+from tests.helper import Case, Stubborn, own_each_time, words_of
+from tests.model import Model
 from tests.teller import Teller
 
 THINGS = (
@@ -284,3 +283,27 @@ class Own(Base):
         self.assertEqual(walk(book, "st", [1], 5, rows), ((1, 1), (4, 1)))
         book.strike(1)
         self.refused(NoChain, walk, book, "st", [1], 5, rows, at=0)
+
+
+class Time(Base):
+
+    def test_chains_that_are_far_too_many_to_go_through(self):
+        book, marks = Book(), [0, 3, 10, 17, 31, 50, 77, 100]
+        for one in layered_papers(9):
+            book.put(one)
+        self.assertEqual(set(words_of(book).values()), {"stands"})
+        model = Model([book.paper(key) for key in book.kept()])
+        self.assertGreater(model.many([((1, 1), "f", mark, 5000) for mark in marks], [], {}), 10 ** 100)
+        asked = ("f", [1, 20, 40, 60, 80, 99], 5000)
+        began = perf_counter()
+        for shut in ([], [("c", 3, 0, 9)], [("c", 3, 0, 9), ("a", 0, 0, 7)]):
+            found = {by: chain(book, *asked, shut, by) for by in BYS}
+            reached = ends(book, *asked, shut)
+            self.assertEqual(walk(book, *asked, found["low"])[0], reached[0])
+            self.assertEqual(walk(book, *asked, found["high"])[1], reached[1])
+            self.assertEqual(width(walk(book, *asked, found["near"])), nearest(book, *asked, shut))
+            for by in BYS:
+                self.assertEqual(through(found[by], shut), [])
+                self.assertEqual(len({row[1:4] for row in found[by]}), len(found[by]))
+        # Far more than is needed where each mark on a day is looked at once.
+        self.assertLess(perf_counter() - began, 30)

@@ -9,7 +9,7 @@ from truechain.errors import NoDeed, NoPaper, NoReading, TooMany, Twice, Wrong
 from truechain.house import House
 from truechain.texts import read_paper
 from tests.chance import fitting_papers, some_papers
-from tests.helper import Case, Stubborn, junk, lists_in, own_each_time, places_refused, words_of
+from tests.helper import Case, Stubborn, junk, lists_in, own_each_time, places_refused
 from tests.teller import Teller
 
 THINGS = ("101 0 thing st box 0 0 1,2,5", "103 0 thing ga scale 2 0 0,5,10")

@@ -10,7 +10,7 @@ from truechain.errors import NoOffer, NoSpot, NoThing, TooMany, Wrong
 from truechain.offers import met, near_with
 from truechain.texts import read_paper
 from tests.chance import some_trial
-from tests.helper import NO_OFFERS, NO_WISHES, Case, Stubborn, book_of, junk, own_each_time, places_refused, words_of
+from tests.helper import NO_OFFERS, NO_WISHES, Case, book_of, junk, own_each_time, places_refused, words_of
 from tests.teller import Teller
 
 ONE, NOUGHT = (1, 1), (0, 1)

@@ -4,6 +4,7 @@ import ast
 import builtins
 import importlib
 import inspect
+import re
 import unittest
 from pathlib import Path
 
@@ -163,3 +164,55 @@ class Language(unittest.TestCase):
                 with self.subTest(name, row=row.lineno):
                     is_text = isinstance(row, ast.Expr) and isinstance(row.value, ast.Constant)
                     self.assertTrue(isinstance(row, allowed) or is_text)
+
+    def test_names_of_attributes_and_methods(self):
+        # Those that values of Python's own have are not free, but for some that the rules name.
+        taken = {word for value in ("", 0, [], {}, set(), b"") for word in dir(value) if not word.startswith("_")}
+        attributes = set("count index title find get join lower upper split strip copy add".split())
+        methods = {"add", "discard"} | {
+            "append", "clear", "copy", "count", "endswith", "extend", "find", "get", "index", "insert", "isalnum", "isalpha",
+            "isdigit", "islower", "isspace", "isupper", "items", "join", "keys", "ljust", "lower", "lstrip", "partition", "pop",
+            "remove", "replace", "reverse", "rfind", "rjust", "rpartition", "rsplit", "rstrip", "setdefault", "split",
+            "splitlines", "startswith", "strip", "update", "upper", "values", "zfill", "bit_length"}
+        for name, _, tree in files():
+            for node in ast.walk(tree):
+                with self.subTest(name, row=getattr(node, "lineno", None)):
+                    if isinstance(node, ast.Attribute) and isinstance(node.ctx, ast.Store):
+                        self.assertNotIn(node.attr, (taken | {"sort", "args", "format", "mro"}) - attributes)
+                    if isinstance(node, ast.ClassDef):
+                        words = {row.name for row in node.body if isinstance(row, ast.FunctionDef)}
+                        self.assertEqual(words & (taken - methods), set())
+                        stored = {one.attr for one in ast.walk(node)
+                                  if isinstance(one, ast.Attribute) and isinstance(one.ctx, ast.Store)}
+                        self.assertEqual(words & stored, set())
+
+    def test_local_names(self):
+        for name, _, tree in files():
+            top = {alias.name for row in tree.body if isinstance(row, ast.ImportFrom) for alias in row.names}
+            top |= {row.name for row in tree.body if isinstance(row, ast.ClassDef)}
+            for node in ast.walk(tree):
+                if isinstance(node, (ast.FunctionDef, ast.Lambda)):
+                    words = {one.arg for one in ast.walk(node) if isinstance(one, ast.arg)}
+                    words |= {one.id for one in ast.walk(node) if isinstance(one, ast.Name) and isinstance(one.ctx, ast.Store)}
+                    with self.subTest(name, row=node.lineno):
+                        self.assertEqual(words & top, set())
+
+    def test_no_two_files_import_from_each_other(self):
+        ahead = {}
+        for name, _, tree in files():
+            ahead[name] = {row.module.split(".")[1] + ".py" for row in tree.body
+                           if isinstance(row, ast.ImportFrom) and row.module.startswith("truechain.")}
+        while ahead:
+            free = [name for name in ahead if not ahead[name] & set(ahead)]
+            self.assertNotEqual(free, [], ahead)
+            for name in free:
+                del ahead[name]
+
+    def test_words_that_do_not_occur(self):
+        barred = set("""
+            type typing typing_extensions enum Enum IntEnum StrEnum Flag IntFlag Generic Protocol ABC ABCMeta namedtuple
+            NamedTuple TypedDict TYPE_CHECKING abstractmethod dataclass overload contextmanager
+        """.split())
+        for name, text, _ in files():
+            with self.subTest(name):
+                self.assertEqual(set(re.findall(r"\w+", text)) & barred, set())

@@ -13,7 +13,6 @@ from truechain.errors import NoOffer, NoSpot, NoThing, TooMany, Wrong
 from truechain.offers import met, near_with
 from truechain.plans import needed, plan
 from truechain.stretches import width
-from truechain.texts import read_paper
 from tests.chance import small, some_trial
 from tests.helper import NO_OFFERS, NO_WISHES, Case, Stubborn, junk, lists_in, own_each_time, places_refused, words_of
 from tests.teller import Teller

@@ -8,7 +8,7 @@ from time import perf_counter
 from truechain.book import Book
 from truechain.chains import chain, through, walk
 from truechain.ends import ends
-from truechain.errors import NoChain, NoSpot, NoThing, Wrong
+from truechain.errors import NoChain, Wrong
 from truechain.links import links
 from tests.chance import LAST, fitting_papers, fitting_spot
 from tests.helper import Case, Stubborn, junk

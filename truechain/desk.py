@@ -9,6 +9,17 @@ from truechain.papers import is_worth_of
 from truechain.texts import read_paper, show_fraction, word_of, worth_of
 
 PUT = "put "
+# The words behind the first one of each row but the one that puts.
+PARTS_OF_ROWS = {
+    "strike": ("key",),
+    "back": (),
+    "keys": (),
+    "word": ("key",),
+    "answer": ("key",),
+    "chain": ("key", "by"),
+    "doubt": ("off",),
+    "lasts": ("name", "spot", "day"),
+}
 NOTHING = "none"
 NONE_HERE = "-"
 
@@ -26,13 +37,11 @@ class Desk:
         if text.startswith(PUT):
             return changes_text(self._house.put(read_paper(text[len(PUT):])))
         first, *words = text.split(" ")
-        if first not in ROWS:
+        if first not in PARTS_OF_ROWS or len(words) != len(PARTS_OF_ROWS[first]):
             raise NoRow()
-        parts, said = ROWS[first]
-        if len(words) != len(parts):
-            raise NoRow()
-        worths = [worth_in(part, word) for part, word in zip(parts, words)]
-        return said(self._house, *worths)
+        worths = [worth_in(part, word) for part, word in zip(PARTS_OF_ROWS[first], words)]
+        said_by = ANSWERS[first]
+        return said_by(self._house, *worths)
 
 
 def worth_in(part, word):
@@ -128,14 +137,14 @@ def row_text(row):
     return f"{key} {name} {mark} {day} {show_fraction(weight)}"
 
 
-# Of each row but the one that puts: the parts behind its first word, and what answers it.
-ROWS = {
-    "strike": (("key",), say_strike),
-    "back": ((), say_back),
-    "keys": ((), say_keys),
-    "word": (("key",), say_word),
-    "answer": (("key",), say_answer),
-    "chain": (("key", "by"), say_chain),
-    "doubt": (("off",), say_doubt),
-    "lasts": (("name", "spot", "day"), say_lasts),
+# What answers each row but the one that puts.
+ANSWERS = {
+    "strike": say_strike,
+    "back": say_back,
+    "keys": say_keys,
+    "word": say_word,
+    "answer": say_answer,
+    "chain": say_chain,
+    "doubt": say_doubt,
+    "lasts": say_lasts,
 }

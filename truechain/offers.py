@@ -22,7 +22,7 @@ class Trial:
     def __init__(self, book, day, offers, wishes):
         things = book.course().things
         self.day = day
-        self.keys = [offer[0] for offer in offers]
+        self.offered = [offer[0] for offer in offers]
         self.widths = [wish[2] for wish in wishes]
         self.wanted = [wanted(things, name, spot, day) for name, spot, _ in wishes]
         web = Web(things, windows_of_all(book), links_of_offers(things, day, offers))
@@ -30,7 +30,8 @@ class Trial:
 
     def routes_by(self, chosen):
         """Tell the routes by the links of the chosen offers, told by their places, and by none of the other ones."""
-        return self.routes.without([key for at, key in enumerate(self.keys) if at not in chosen], self.day)
+        left_out = [key for at, key in enumerate(self.offered) if at not in chosen]
+        return self.routes.without(left_out, self.day)
 
     def met_by(self, routes):
         """Tell of each wish whether it is met by some routes."""

@@ -23,7 +23,7 @@ def plan(book, day, offers, wishes):
         return ("never", at, rows_by(trial.routes, trial.wanted[at]))
     chosen = fewest(trial)
     routes = trial.routes_by(chosen)
-    return ("plan", [trial.keys[at] for at in chosen], [rows_by(routes, parts) for parts in trial.wanted])
+    return ("plan", [trial.offered[at] for at in chosen], [rows_by(routes, parts) for parts in trial.wanted])
 
 
 def needed(book, day, offers, wishes):
@@ -32,12 +32,12 @@ def needed(book, day, offers, wishes):
     require_offers(book, day, offers)
     trial = Trial(book, day, offers, wishes)
     many = len(offers)
-    return [trial.keys[at] for at in range(many) if not does_do(trial, [one for one in range(many) if one != at])]
+    return [trial.offered[at] for at in range(many) if not does_do(trial, [one for one in range(many) if one != at])]
 
 
 def fewest(trial):
     """Tell the places of the fewest offers with which all wishes are met, of as few ones the first choice."""
-    many = len(trial.keys)
+    many = len(trial.offered)
     for size in range(many):
         # They come by their places, compared from the first place on.
         for chosen in combinations(range(many), size):
